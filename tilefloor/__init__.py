@@ -1,0 +1,1 @@
+"""Tilefloor: floors laid with stones of two squares."""
