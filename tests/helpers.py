@@ -87,6 +87,57 @@ def slow_plain(floor):
     return piece == squares and len(corners) - len(sides) + len(squares) == 1
 
 
+def slow_turned(laying):
+    """Every turn of a laying with what it is turned to: two of its stones that make a block of four squares."""
+    found = {}
+    for one, other in itertools.combinations(laying, 2):
+        squares = sorted(one + other)
+        row, column = squares[0]
+        if squares == [(row, column), (row, column + 1), (row + 1, column), (row + 1, column + 1)]:
+            across = {(squares[0], squares[1]), (squares[2], squares[3])}
+            upright = {(squares[0], squares[2]), (squares[1], squares[3])}
+            put = upright if {one, other} == across else across
+            found[squares[0]] = tuple(sorted(set(laying) - {one, other} | put))
+    return found
+
+
+def slow_distances(layings, start):
+    """The fewest turns from one laying to each one that can be made of it: rounds over all that are left."""
+    far = {start: 0}
+    left = set(layings) - {start}
+    while True:
+        last = max(far.values())
+        near = [laying for laying in far if far[laying] == last]
+        made = {other for laying in near for other in slow_turned(laying).values()} & left
+        if not made:
+            return far
+        far.update(dict.fromkeys(made, last + 1))
+        left -= made
+
+
+def drawn(laying, rows, columns):
+    """A laying as a text of so many rows and columns, whether or not the last ones have a square."""
+    signs = [["."] * columns for row in range(rows)]
+    for (row, column), other in laying:
+        signs[row][column] = "<" if other == (row, column + 1) else "^"
+        signs[other[0]][other[1]] = ">" if other == (row, column + 1) else "v"
+    return "".join("".join(line) + "\n" for line in signs)
+
+
+def laying_of(*rows):
+    """The laying of a picture, a text for each row."""
+    stones = []
+    for row, text in enumerate(rows):
+        for column, sign in enumerate(text):
+            if sign in "<^":
+                stones.append(((row, column), (row, column + 1) if sign == "<" else (row + 1, column)))
+    return tuple(stones)
+
+
+def moved(laying, down, right):
+    return tuple(tuple((row + down, column + right) for row, column in stone) for stone in laying)
+
+
 class Prickly:
     """A thing that can't be compared, counted, walked, hashed or shown."""
 

@@ -329,6 +329,9 @@ class Plain(unittest.TestCase):
         self.assertIs(is_plain(block(5, 6)), True)
         self.assertIs(is_plain(block(2, 13)), True)
 
+    def test_no_squares_are_not_refused(self):
+        self.assertIs(is_plain(()), True)
+
 
 if __name__ == "__main__":
     unittest.main()

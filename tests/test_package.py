@@ -1,12 +1,14 @@
 """Promise 1, by the look of the code: no clock, chance or files, nothing kept, and the part of Python that is used."""
 
 import ast
+import inspect
 import pathlib
+import re
 import unittest
 
 import tilefloor
 from tests.helpers import FLOORS
-from tilefloor import errors, floors, laying
+from tilefloor import errors, floors, heights, laying, rings, texts, turns
 
 FOLDER = pathlib.Path(tilefloor.__file__).parent
 OWN_NAMES = set(
@@ -23,6 +25,19 @@ LEFT_OUT = (
     ast.AsyncFunctionDef, ast.AsyncFor, ast.AsyncWith, ast.SetComp, ast.DictComp, ast.GeneratorExp, ast.NamedExpr,
     ast.Starred, ast.Div, ast.MatMult, ast.AnnAssign, ast.Import,
 )
+
+WORDS_LEFT_OUT = (
+    "type typing typing_extensions enum Enum IntEnum StrEnum Flag IntFlag Generic Protocol ABC ABCMeta namedtuple "
+    "NamedTuple TypedDict TYPE_CHECKING abstractmethod"
+).split()
+INTERFACE = {
+    floors: {"checked": "floor", "checked_laying": "floor laying", "is_plain": "floor"},
+    laying: {"laid": "floor", "count": "floor", "all_layings": "floor", "fixed": "floor"},
+    turns: {"turns": "laying", "turned": "laying square", "road": "floor one other"},
+    heights: {"heights": "floor laying", "fewest_turns": "floor one other"},
+    rings: {"rings": "one other", "laid_otherwise": "laying ring"},
+    texts: {"shown": "laying", "read": "text"},
+}
 
 
 def sources():
@@ -48,7 +63,20 @@ def bound_names(tree):
 class Code(unittest.TestCase):
     def test_the_modules_are_there(self):
         names = [name for name, text, tree in sources()]
-        self.assertTrue({"__init__.py", "errors.py", "floors.py", "laying.py"} <= set(names), names)
+        asked = "__init__ errors floors laying turns heights rings texts".split()
+        self.assertTrue({name + ".py" for name in asked} <= set(names), names)
+
+    def test_the_interface_has_its_names_and_arguments(self):
+        for module, functions in INTERFACE.items():
+            for name, arguments in functions.items():
+                told = inspect.signature(getattr(module, name)).parameters.values()
+                self.assertEqual([one.name for one in told], arguments.split(), name)
+                self.assertTrue(all(one.default is one.empty for one in told), name)
+
+    def test_nothing_but_sources_lies_in_the_package(self):
+        for path in FOLDER.rglob("*"):
+            if "__pycache__" not in path.parts:
+                self.assertEqual(path.suffix, ".py", path)
 
     def test_only_own_modules_are_drawn_from(self):
         for name, text, tree in sources():
@@ -91,23 +119,62 @@ class Code(unittest.TestCase):
                     self.assertLessEqual(node.end_lineno - node.lineno + 1, 40, (name, node.name))
 
 
+    def test_words_that_are_left_out(self):
+        for name, text, tree in sources():
+            self.assertFalse(set(re.findall(r"\w+", text)) & set(WORDS_LEFT_OUT), name)
+            self.assertIsNone(re.search("dataclass|overload|contextmanager", text), name)
+
+    def test_no_local_is_called_like_an_import_or_a_class(self):
+        for name, text, tree in sources():
+            drawn = {one.name for node in tree.body if isinstance(node, ast.ImportFrom) for one in node.names}
+            drawn |= {node.name for node in tree.body if isinstance(node, ast.ClassDef)}
+            for node in ast.walk(tree):
+                if isinstance(node, ast.arg):
+                    self.assertNotIn(node.arg, drawn, (name, node.lineno))
+                elif isinstance(node, ast.Name) and isinstance(node.ctx, ast.Store):
+                    self.assertNotIn(node.id, drawn, (name, node.lineno))
+
+    def test_no_two_files_draw_from_one_another(self):
+        draws = {}
+        for name, text, tree in sources():
+            module = "tilefloor." + name.removesuffix(".py")
+            draws[module] = {node.module for node in tree.body if isinstance(node, ast.ImportFrom)}
+        while draws:
+            free = [name for name in draws if not draws[name] & set(draws)]
+            self.assertTrue(free, draws)
+            for name in free:
+                draws.pop(name)
+
+
 class Keeping(unittest.TestCase):
     def test_no_module_keeps_anything_of_a_call(self):
         def kept():
             return [
                 {name: repr(value) for name, value in vars(module).items() if name != "__builtins__"}
-                for module in (errors, floors, laying)
+                for module in (errors, *INTERFACE)
             ]
 
         before = kept()
         for floor in FLOORS.values():
             floors.checked(floor)
-            floors.is_plain(floor)
             laying.laid(floor)
             laying.fixed(floor)
-            for one in laying.all_layings(floor) if laying.count(floor) <= 200 else []:
-                floors.checked_laying(floor, one)
+            layings = laying.all_layings(floor) if laying.count(floor) <= 200 else []
+            for one in layings[:20]:
+                self.call_all(floor, one, layings[-1])
         self.assertEqual(kept(), before)
+
+    def call_all(self, floor, one, other):
+        floors.checked_laying(floor, one)
+        turns.road(floor, one, other)
+        for square in turns.turns(one):
+            turns.turned(one, square)
+        if floors.is_plain(floor):
+            heights.heights(floor, one)
+            heights.fewest_turns(floor, one, other)
+        for ring in rings.rings(one, other):
+            rings.laid_otherwise(one, ring)
+        texts.read(texts.shown(one))
 
 
 if __name__ == "__main__":

@@ -22,17 +22,22 @@ def all_around(square):
     return neighbours(square) + corner_neighbours(square)
 
 
-def is_line(thing):
+def is_number(thing):
     # Python counts True and False among the whole numbers; here they are none.
-    return isinstance(thing, int) and not isinstance(thing, bool) and 0 <= thing <= LAST_LINE
+    return isinstance(thing, int) and not isinstance(thing, bool)
 
 
 def is_pair(thing):
     return isinstance(thing, tuple) and len(thing) == 2
 
 
+# A square wherever it lies: only some refusals ask that it keeps to the lines 0 to 7.
+def is_place(thing):
+    return is_pair(thing) and is_number(thing[0]) and is_number(thing[1])
+
+
 def is_square(thing):
-    return is_pair(thing) and is_line(thing[0]) and is_line(thing[1])
+    return is_place(thing) and 0 <= thing[0] <= LAST_LINE and 0 <= thing[1] <= LAST_LINE
 
 
 def is_stone(thing):
@@ -124,4 +129,7 @@ def has_bare_corner(floor):
 
 
 def is_plain(floor):
+    # Of no squares at all there is none that breaks one of the three.
+    if len(floor) == 0:
+        return True
     return hangs_together(floor) and not has_hole(floor) and not has_bare_corner(floor)
